@@ -1,0 +1,1 @@
+"""Dueways: a network that keeps its promises of time, and refuses none without a cause."""

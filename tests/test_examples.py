@@ -1,0 +1,37 @@
+"""The examples of the interface, as they stand in the document."""
+
+import doctest
+import unittest
+
+EXAMPLES = [
+    """
+>>> from dueways.curves import Curve
+>>> from dueways.records import greedy, shaped
+>>> curve = Curve([2, 2], period=2, gain=1)
+>>> [greedy(curve, 5), shaped([4, 0, 0, 0], curve)]
+[[2, 0, 1, 0, 1], [2, 0, 1, 0]]
+""",
+    """
+>>> from dueways.curves import Curve
+>>> from dueways.police import Police
+>>> police = Police(Curve([1, 1], period=2, gain=1), queue=1)
+>>> told = [police.step(3), police.binding(), police.step(0), police.binding(), police.step(0)]
+>>> [told, police.record(), police.held, police.returned]
+[[(1, 1), (1, 0), (0, 0), (2, 0), (1, 0)], [1, 0, 1], 0, 1]
+""",
+]
+
+
+class TestExamples(unittest.TestCase):
+    def test_examples(self):
+        parser = doctest.DocTestParser()
+        for number, text in enumerate(EXAMPLES):
+            with self.subTest(number):
+                example = parser.get_doctest(text, {}, f"example {number}", None, None)
+                told = []
+                self.assertEqual(doctest.DocTestRunner(verbose=False).run(example, out=told.append).failed, 0,
+                                 "".join(told))
+
+
+if __name__ == "__main__":
+    unittest.main()

@@ -1,0 +1,50 @@
+"""The interface: what exists, in which file, and with which arguments."""
+
+import importlib
+import inspect
+import unittest
+
+FUNCTIONS = {
+    "dueways.records": {
+        "most_in": "(record, length)", "keeps": "(record, curve)", "breach": "(record, curve)",
+        "tightest": "(record)", "greedy": "(curve, ticks)", "shaped": "(record, curve)",
+    },
+}
+CLASSES = {
+    ("dueways.curves", "Curve"): {
+        "__init__": "(self, values, *, period=1, gain=0)", "of_pieces": "(*pieces)", "at": "(self, length)",
+        "period": None, "gain": None, "rate": None, "first_values": "(self)", "at_most": "(self, other)",
+        "find_break": "(self)", "is_good": "(self)", "later": "(self, ticks)",
+        "first_above": "(self, capacity)", "shortest_for": "(self, units)",
+    },
+    ("dueways.police", "Police"): {
+        "__init__": "(self, curve, *, queue=60)", "step": "(self, units, *, leak=0, closed=False)",
+        "held": None, "queue": None, "returned": None, "record": "(self)", "binding": "(self)", "clone": "(self)",
+    },
+}
+
+
+class TestInterface(unittest.TestCase):
+    def test_functions(self):
+        for module, functions in FUNCTIONS.items():
+            for name, arguments in functions.items():
+                with self.subTest(name):
+                    found = getattr(importlib.import_module(module), name)
+                    self.assertEqual(found.__module__, module)
+                    self.assertEqual(str(inspect.signature(found)), arguments)
+
+    def test_classes(self):
+        for (module, name), members in CLASSES.items():
+            found = getattr(importlib.import_module(module), name)
+            self.assertEqual(found.__module__, module)
+            for member, arguments in members.items():
+                with self.subTest(name, member=member):
+                    self.assertIn(member, vars(found))
+                    if arguments is None:
+                        self.assertIsInstance(vars(found)[member], property)
+                    else:
+                        self.assertEqual(str(inspect.signature(getattr(found, member))), arguments)
+
+
+if __name__ == "__main__":
+    unittest.main()
