@@ -27,6 +27,9 @@ class Curve:
         self._values = form
         self._period = least
         self._gain = step
+        # Whether the break was looked for, and what was found: each load and stream asks for it.
+        self._was_searched = False
+        self._break = None
 
     @classmethod
     def of_pieces(cls, *pieces):
@@ -90,18 +93,11 @@ class Curve:
         return all([self.at(length) <= other.at(length) for length in range(1, many + 1)])
 
     def find_break(self):
-        """Return the break, the first (s, t) with a greater value at s + t than at s and t together, or None.
-
-        Neither is greater than the number of values: with t - period in place of t both sides would have the
-        gain less, so there would be an earlier one.
-        """
-        many = len(self._values)
-        row = [self.at(length) for length in range(2 * many + 1)]
-        for total in range(2, 2 * many + 1):
-            for first in range(max(1, total - many), total // 2 + 1):
-                if row[total] > row[first] + row[total - first]:
-                    return first, total - first
-        return None
+        """Return the break, the first (s, t) with a greater value at s + t than at s and t together, or None."""
+        if not self._was_searched:
+            self._break = first_break(self)
+            self._was_searched = True
+        return self._break
 
     def is_good(self):
         """Return whether the curve has no break."""
@@ -152,6 +148,21 @@ def make_curve(values, period, gain):
     made._period = least
     made._gain = step
     return made
+
+
+def first_break(curve):
+    """Return the break of a curve, or None.
+
+    Neither length is greater than the number of values: with t - period in place of t both sides would have the
+    gain less, so there would be an earlier one.
+    """
+    many = len(curve.first_values())
+    row = [curve.at(length) for length in range(2 * many + 1)]
+    for total in range(2, 2 * many + 1):
+        for first in range(max(1, total - many), total // 2 + 1):
+            if row[total] > row[first] + row[total - first]:
+                return first, total - first
+    return None
 
 
 def require_good(curve):

@@ -19,6 +19,24 @@ EXAMPLES = [
 >>> [told, police.record(), police.held, police.returned]
 [[(1, 1), (1, 0), (0, 0), (2, 0), (1, 0)], [1, 0, 1], 0, 1]
 """,
+    """
+>>> from dueways.curves import Curve
+>>> from dueways.loads import Load, Visit, demand
+>>> curve = Curve([3, 3, 3, 3, 3, 3], period=6, gain=1)
+>>> load = Load(curve, [Visit(1, end=2), Visit(1, begin=4, end=6)])
+>>> [demand(load, 0, 3), demand(load, 0, 7)]
+[3, 3]
+""",
+    """
+>>> from dueways.curves import Curve
+>>> from dueways.loads import Load, Visit
+>>> from dueways.supply import Supply
+>>> from dueways.windows import overfull
+>>> curve = Curve([2, 2], period=2, gain=1)
+>>> loads = [Load(curve, [Visit(2)]), Load(curve, [Visit(4)])]
+>>> overfull(Supply(1), loads)
+(0, 4)
+""",
 ]
 
 

@@ -9,6 +9,15 @@ FUNCTIONS = {
         "most_in": "(record, length)", "keeps": "(record, curve)", "breach": "(record, curve)",
         "tightest": "(record)", "greedy": "(curve, ticks)", "shaped": "(record, curve)",
     },
+    "dueways.loads": {
+        "stretch": "(visit, start, end)", "demand": "(load, start, end)", "matching": "(load, start, end)",
+        "full_record": "(load, start, end)",
+    },
+    "dueways.windows": {
+        "demands": "(loads, start, end)", "overfull": "(supply, loads)", "is_overfull": "(supply, loads, value)",
+        "places": "(loads, tick)", "crowded": "(room, loads)", "full_tick": "(load, tick)",
+    },
+    "dueways.network": {"check_split": "(network, path, value)"},
 }
 CLASSES = {
     ("dueways.curves", "Curve"): {
@@ -20,6 +29,23 @@ CLASSES = {
     ("dueways.police", "Police"): {
         "__init__": "(self, curve, *, queue=60)", "step": "(self, units, *, leak=0, closed=False)",
         "held": None, "queue": None, "returned": None, "record": "(self)", "binding": "(self)", "clone": "(self)",
+    },
+    ("dueways.loads", "Visit"): {
+        "__init__": "(self, time, *, shift=0, begin=0, end=None)", "time": None, "shift": None, "begin": None,
+        "end": None, "__eq__": "(self, other)", "__repr__": "(self)",
+    },
+    ("dueways.loads", "Load"): {"__init__": "(self, curve, visits)", "curve": None, "visits": "(self)"},
+    ("dueways.supply", "Supply"): {
+        "__init__": "(self, capacity, changes=())", "at": "(self, tick)", "between": "(self, start, end)",
+        "changes": "(self)", "__eq__": "(self, other)",
+    },
+    ("dueways.network", "Station"): {
+        "__init__": "(self, name, capacity, room, *, may_fail=False)", "name": None, "capacity": None, "room": None,
+        "may_fail": None,
+    },
+    ("dueways.network", "Network"): {
+        "__init__": "(self, stations, links=())", "names": "(self)", "links": "(self)", "find": "(self, name)",
+        "link": "(self, source, target)", "check_path": "(self, value)", "__eq__": "(self, other)",
     },
 }
 
