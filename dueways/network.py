@@ -158,6 +158,4 @@ def is_link(value, names):
     if not isinstance(value, tuple) or len(value) != 3:
         return False
     source, target, length = value
-    if not isinstance(source, str) or not isinstance(target, str):
-        return False
     return source in names and target in names and source != target and is_count_to(length, MAX_LINK)

@@ -37,6 +37,19 @@ EXAMPLES = [
 >>> overfull(Supply(1), loads)
 (0, 4)
 """,
+    """
+>>> from dueways.admission import admit, fastest, least_total
+>>> from dueways.book import Book
+>>> from dueways.curves import Curve
+>>> from dueways.network import Network, Station
+>>> curve = Curve([2, 2], period=2, gain=1)
+>>> stations = [Station('cpu', 1, 8), Station('disk', 2, 8)]
+>>> book = Book(Network(stations, [('cpu', 'disk', 1)]))
+>>> first = admit(book, 'a', curve, ['cpu'], 10)
+>>> second = admit(book, 'b', curve, ['cpu', 'disk'], 20)
+>>> [first, second, book.lives_of('b')]
+[[2], [5, 1], [(0, None, ('cpu', 'disk'), (5, 1))]]
+""",
 ]
 
 

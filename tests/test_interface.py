@@ -18,6 +18,10 @@ FUNCTIONS = {
         "places": "(loads, tick)", "crowded": "(room, loads)", "full_tick": "(load, tick)",
     },
     "dueways.network": {"check_split": "(network, path, value)"},
+    "dueways.admission": {
+        "admit": "(book, name, curve, path, within, *, begin=0, split=None)",
+        "least_total": "(book, curve, path, *, begin=0)", "fastest": "(book, curve, source, target, *, begin=0)",
+    },
 }
 CLASSES = {
     ("dueways.curves", "Curve"): {
@@ -46,6 +50,41 @@ CLASSES = {
     ("dueways.network", "Network"): {
         "__init__": "(self, stations, links=())", "names": "(self)", "links": "(self)", "find": "(self, name)",
         "link": "(self, source, target)", "check_path": "(self, value)", "__eq__": "(self, other)",
+    },
+    ("dueways.book", "Book"): {
+        "__init__": "(self, network)", "network": None, "names": "(self)", "curve_of": "(self, name)",
+        "within_of": "(self, name)", "lives_of": "(self, name)", "loads_of": "(self, station)",
+        "supply_of": "(self, station)", "reserve_of": "(self, name)", "is_safe": "(self)", "is_plain": "(self)",
+        "clone": "(self)", "__eq__": "(self, other)", "__len__": "(self)", "__contains__": "(self, name)",
+    },
+    ("dueways.admission", "Refusal"): {
+        "name": None, "within": None, "begin": None, "path": "(self)", "table": "(self)",
+        "trouble": "(self, split)", "run": "(self, split)",
+    },
+    ("dueways.faults", "Fault"): {"kind": "(self)"},
+    ("dueways.faults", "Idle"): {
+        "__init__": "(self, station, tick, amount)", "station": None, "tick": None, "amount": None,
+        "kind": "(self)", "__eq__": "(self, other)",
+    },
+    ("dueways.faults", "Swap"): {
+        "__init__": "(self, station, tick)", "station": None, "tick": None, "kind": "(self)",
+        "__eq__": "(self, other)",
+    },
+    ("dueways.faults", "Leak"): {
+        "__init__": "(self, stream, tick, amount)", "stream": None, "tick": None, "amount": None,
+        "kind": "(self)", "__eq__": "(self, other)",
+    },
+    ("dueways.faults", "Hold"): {
+        "__init__": "(self, stream, number, place, ticks)", "stream": None, "number": None, "place": None,
+        "ticks": None, "kind": "(self)", "__eq__": "(self, other)",
+    },
+    ("dueways.machine", "Machine"): {
+        "__init__": "(self, book, *, queue=60, faults=())", "tick": None, "book": "(self)",
+        "step": "(self, *, handed=None, loose=None)", "entered": "(self, stream)", "waiting": "(self, stream)",
+        "sent_back": "(self, stream)", "arrivals": "(self, stream)", "lost": "(self, stream)",
+        "units": "(self, station)", "released": "(self, station)", "served": "(self, station)",
+        "loose": "(self, station)", "late": "(self)", "full": "(self)", "use": "(self, book)",
+        "drop": "(self, stream)", "clone": "(self)",
     },
 }
 

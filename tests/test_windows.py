@@ -183,6 +183,23 @@ class TestLongWindows(unittest.TestCase):
         start, end = self.check((20, []), [(twos, [(12, 0, 0, None)])] * 10 + [(more, [(1, 0, 1, None)])], 3)
         self.assertGreater(end - start, 2000)
 
+    def test_rates_that_are_some_units_greater(self):
+        ones, more, twelve = ([1], 1, 1), ([5] * 12, 12, 5), ([1] * 12, 12, 1)
+        start, end = self.check((6, []), [(ones, [(12, 2, 1, None)])] * 6 + [(more, [(12, 0, 4, None)])], 7)
+        self.assertGreater(end - start, 100)
+        start, end = self.check((6, [(5, 9), (8, 6)]), [(ones, [(12, 2, 1, None)])] * 6 + [(twelve, [(1, 0, 4, None)])]
+                                + [(more, [(12, 0, 9, 60)])], 13)
+        self.assertGreater(end - start, 100)
+
+    def test_lives_that_end_late(self):
+        ones, half = ([1], 1, 1), ([1, 1], 2, 1)
+        long_ago = [(half, [(12, 0, 0, 300)]), (ones, [(12, 0, 0, None)])]
+        found = self.check((1, []), long_ago, 301)
+        self.assertLess(found[1] - found[0], 60)
+        self.check((1, []), [(([1] * 12, 12, 1), [(12, 0, 0, 300)]), (ones, [(12, 0, 0, None)])], 301)
+        self.check((1, []), [(([1] * 12, 12, 1), [(12, 0, 0, 100)]), (ones, [(12, 0, 0, None)])], 101, False)
+        self.check((1, [(299, 20)]), [(([1] * 12, 12, 1), [(12, 0, 0, 300)]), (ones, [(12, 0, 0, 400)])], 401)
+
     def test_with_changes_and_ends(self):
         ones, more = ([1], 1, 1), ([1] * 12, 12, 1)
         loads = [(ones, [(9, 1, 0, None)])] * 3 + [(more, [(5, 0, 4, None)]), (([3], 1, 0), [(2, 2, 3, 9)])]
