@@ -85,11 +85,9 @@ class Refusal:
         return first_impossible(self._possible, self._book.network, self._path, split)
 
     def _loads_with(self, station, time, shift):
-        """Return the list of the (name, load) of a station with the refused stream among them."""
-        loads = self._book.loads_of(station)
-        visits = [visit for name, load in loads if name == self._name for visit in load.visits()]
-        visits.append(Visit(time, shift=shift, begin=self._begin))
-        return [one for one in loads if one[0] != self._name] + [(self._name, Load(self._curve, visits))]
+        """Return the list of the (name, load) of a station, that of the refused stream being the last one."""
+        visit = Visit(time, shift=shift, begin=self._begin)
+        return self._book.loads_of(station) + [(self._name, Load(self._curve, [visit]))]
 
 
 def admit(book, name, curve, path, within, *, begin=0, split=None):

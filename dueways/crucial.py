@@ -9,7 +9,7 @@ from dueways.loads import MAX_TIME
 
 # Each period of a curve divides this one.
 ROUND = 12
-BEYOND = 2 * ROUND
+BEYOND = 24
 
 
 def turning_ticks(supply, needs):

@@ -26,7 +26,7 @@ class Machine:
         self._benches = {station: Bench() for station in book.network.names()}
         # The units that will be released in each tick.
         self._coming = {}
-        # For each unit that was late at a station: the tick from which on, its due, station, stream and number.
+        # The (due, station, stream, number) of each unit that was late at a station.
         self._late = []
         self._full = None
         self._take_over(book)
@@ -102,8 +102,7 @@ class Machine:
         """Return the list of the (due, station, stream, number) of all units that are or were late."""
         stations = ranks(self._book.network.names())
         streams = ranks(self._book.names())
-        told = [(due, station, stream, number) for _, due, station, stream, number in self._late]
-        return sorted(told, key=lambda one: (one[0], stations[one[1]], streams[one[2]], one[3]))
+        return sorted(self._late, key=lambda one: (one[0], stations[one[1]], streams[one[2]], one[3]))
 
     def full(self):
         """Return the first (tick, station) at which a station was full, or None."""
@@ -217,7 +216,7 @@ class Machine:
         in_time = unit.served_at() is not None and unit.served_at() < unit.due()
         if not in_time and not unit.was_late and not unit.was_lost:
             unit.was_late = True
-            self._late.append((self._done + 1, unit.due(), station, unit.owner, unit.serial))
+            self._late.append((unit.due(), station, unit.owner, unit.serial))
 
     def _send_on(self, unit):
         """Let a unit that has left a station go on, arrive, or disappear."""

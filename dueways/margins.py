@@ -3,8 +3,8 @@
 Loads are given here as needs: tuples (curve, visits).
 """
 
-from dueways.crucial import crucial_lengths, crucial_starts, crucial_ticks, growth, longest_length, turning_ticks
-from dueways.crucial import ROUND
+from dueways.crucial import (ROUND, crucial_lengths, crucial_starts, crucial_ticks, growth, longest_length,
+                             turning_ticks)
 from dueways.loads import MAX_TIME, Visit
 from dueways.matchings import least_cost
 from dueways.stretches import placed_stretches, urgent_stretches

@@ -10,6 +10,7 @@ from dueways.curves import Curve
 from dueways.loads import Load, Visit
 from dueways.network import Network, Station, check_split
 from dueways.records import tightest
+from dueways.splits import Possible
 from dueways.windows import crowded, overfull
 from made import CURVES, any_book, curve, drawn_path, safe_book
 from plain import NO_COUNTS, NO_INTEGERS
@@ -87,6 +88,33 @@ class TestAdmission(unittest.TestCase):
                     with self.assertRaises(errors.Refused):
                         admit(twin, "z", new, [station], 99, begin=begin, split=[time])
                     self.assertTrue(twin == book)
+
+    def test_low_and_high_of_a_stream_that_is_in_the_book(self):
+        # A further life of a stream: its visits belong to one load.
+        chance = random.Random(62)
+        seen = 0
+        for book in drawn_books(40, 63):
+            for name in book.names():
+                lives = book.lives_of(name)
+                ended = book.clone()
+                end = lives[-1][0] + chance.randint(0, 4) if lives[-1][1] is None else lives[-1][1]
+                ended.put_stream(name, book.curve_of(name), 9, lives[:-1] + [(lives[-1][0], end, *lives[-1][2:])])
+                station, shift = chance.choice(book.network.names()), chance.randint(0, 3)
+                own = dict(ended.loads_of(station))
+                visits = own[name].visits() if name in own else []
+                others = [own[other] for other in own if other != name]
+                low, high = [], []
+                for time in range(1, 13):
+                    load = Load(book.curve_of(name), visits + [Visit(time, shift=shift, begin=end)])
+                    if overfull(ended.supply_of(station), others + [load]) is None:
+                        low.append(time)
+                    if crowded(ended.network.find(station).room, others + [load]) is None:
+                        high.append(time)
+                possible = Possible(ended, name, book.curve_of(name), end)
+                told = possible.low_and_high(station, shift)
+                self.assertEqual(told, (min(low, default=None), max(high, default=None)))
+                seen += len(visits) > 0
+        self.assertGreater(seen, 15)
 
     def test_given_splits(self):
         chance = random.Random(55)
@@ -256,6 +284,14 @@ class TestLeastTotals(unittest.TestCase):
                 least_total(book, ONE, ["p"], begin=value)
             self.assertEqual(repr(caught.exception.value), repr(value))
         self.assertEqual(least_total(book, ONE, ["p", "q"], begin=1000), 4)
+
+
+    def test_the_begin_that_may_be_left_out(self):
+        book = Book(Network([Station("p", 1, 4)]))
+        book.put_changes("p", [(1, 3)])
+        self.assertEqual([least_total(book, Curve([2]), ["p"]), least_total(book, Curve([2]), ["p"], begin=1)], [2, 1])
+        self.assertEqual([fastest(book, Curve([2]), "p", "p"), fastest(book, Curve([2]), "p", "p", begin=1)],
+                         [(2, ["p"]), (1, ["p"])])
 
 
 class TestFastest(unittest.TestCase):

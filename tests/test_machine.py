@@ -333,6 +333,11 @@ class TestCopies(unittest.TestCase):
         machine.book().put_stream("z", Curve([1]), 9, [(0, None, ("p",), (1,))])
         self.assertTrue(machine.book() == chain_book())
 
+    def test_the_queue_that_may_be_left_out(self):
+        machine = Machine(made_book([("p", 1, 1)], [], ("x", [0], 0, [(0, None, ("p",), (1,))])))
+        machine.step(handed={"x": 100})
+        self.assertEqual([machine.waiting("x"), machine.sent_back("x")], [60, 40])
+
     def test_returned_lists_are_new(self):
         machine = Machine(chain_book(), faults=[Idle("p", 0, 1)])
         machine.step(handed={"x": 2, "y": 2}, loose={"p": 2})

@@ -7,6 +7,7 @@ import dueways.errors as errors
 from dueways.admission import admit
 from dueways.book import Book
 from dueways.curves import Curve
+from dueways.faults import Hold
 from dueways.machine import Machine
 from dueways.network import Network, Station
 from made import CURVES, any_book, curve, drawn_lives, drawn_path
@@ -222,6 +223,16 @@ class TestDrop(unittest.TestCase):
             machine.step()
         self.assertEqual([machine.arrivals("x"), machine.units("p"), machine.released("q")],
                          [[None] * 5, [], [(3, "y", 0)]])
+
+    def test_held_units_have_no_place(self):
+        machine = Machine(chain_book(capacity=9), faults=[Hold("x", 1, 0, 3), Hold("x", 0, 1, 3)])
+        for _ in range(3):
+            machine.step(handed={"x": 2} if machine.tick == 0 else None)
+        self.assertEqual(machine.drop("x"), [(0, None), (1, None)])
+        for _ in range(6):
+            machine.step()
+        self.assertEqual([machine.released("p"), machine.released("q")], [[(0, "x", 0)], []])
+        self.assertEqual([machine.late(), machine.arrivals("x")], [[], [None, None]])
 
     def test_blanks_stay_until_they_would_leave(self):
         book = made_book([("p", 1, 2)], [], ("x", [3], 0, [(0, None, ("p",), (1,))]),

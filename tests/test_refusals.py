@@ -195,6 +195,14 @@ class TestRuns(unittest.TestCase):
                     seen += 1
         self.assertGreater(seen, 100)
 
+    def test_a_refused_stream_that_is_not_needed(self):
+        book = Book(Network([Station("p", 1, 9)]))
+        book.put_stream("x", Curve([2]), 9, [(0, 1, ("p",), (1,))])
+        refusal = refused(book, Curve([1]), ["p"], 9, 5)
+        self.assertEqual(refusal.table(), {(0, 0): (None, 12)})
+        self.assertEqual(refusal.trouble([4]), ("time", "p", 0, 1))
+        self.assertEqual(refusal.run([4]), {"x": (0, [2]), "z": (5, [])})
+
     def test_new_dicts_and_lists(self):
         book = Book(Network([Station("p", 1, 4)]))
         refusal = refused(book, Curve([3]), ["p"], 2, 1)
