@@ -8,7 +8,7 @@ from dueways.errors import (HasReserves, InvalidName, InvalidSplit, InvalidTime,
 from dueways.loads import Load, Visit, full_record
 from dueways.network import MAX_PATH, check_split, shifts_of, total_of
 from dueways.splits import Possible, least_split
-from dueways.windows import crowded, full_tick, overfull
+from dueways.windows import crowded, fullest_in, overfull
 
 MAX_WITHIN = 100
 MAX_STREAMS = 10
@@ -70,7 +70,7 @@ class Refusal:
         index, shift = self._first_impossible(split)
         found = {self._name: (self._begin, [])}
         for name, load in self._loads_with(station, split[index], shift):
-            told = full_record(load, start, end) if kind == "time" else full_tick(load, start)
+            told = full_record(load, start, end) if kind == "time" else fullest_in(load, start)
             if len(told[1]) > 0:
                 found[name] = told
         return found

@@ -42,6 +42,11 @@ def crowded(room, loads):
 def full_tick(load, tick):
     """Return a (tick, record) with as many units of a load in their places in a tick as there can be."""
     require_tick(tick)
+    return fullest_in(load, tick)
+
+
+def fullest_in(load, tick):
+    """Return what full_tick does, also for a tick that is later than those that callers may pass."""
     return fullest(load.curve, placed_stretches(load.visits(), tick))
 
 

@@ -1,12 +1,17 @@
 """Rules of the language subset that a test can see: files, sizes, characters, imports and numbers."""
 
 import ast
+import builtins
+import re
 import unittest
 from pathlib import Path
 
 PACKAGE = Path(__file__).resolve().parent.parent / "dueways"
 FILES = sorted(PACKAGE.rglob("*.py"))
 LIBRARY = {"heapq", "math", "itertools", "collections"}
+BARRED = {"register", "mro", "elements", "open", "input", "law", "type", "typing", "enum", "Enum", "Flag", "Generic",
+          "Protocol", "ABC", "exec", "eval", "exit", "id", "vars", "dir", "help", "compile", "os", "sys", "super"}
+BUILTIN_METHODS = {name for made in (str, list, dict, set, int, bytes, tuple) for name in dir(made)}
 
 
 class TestLanguage(unittest.TestCase):
@@ -47,6 +52,65 @@ class TestLanguage(unittest.TestCase):
                     self.assertNotIsInstance(node.value, (float, complex), name)
                     if isinstance(node.value, str):
                         self.assertNotIn("%", node.value, name)
+
+    def test_names(self):
+        for name, _, tree in self.trees():
+            taken = {node.name for node in tree.body if isinstance(node, ast.ClassDef)}
+            taken |= {one.name for node in tree.body if isinstance(node, ast.ImportFrom) for one in node.names}
+            for node in ast.walk(tree):
+                if isinstance(node, ast.arg):
+                    bound = node.arg
+                elif isinstance(node, ast.Name) and isinstance(node.ctx, ast.Store):
+                    bound = node.id
+                elif isinstance(node, ast.FunctionDef):
+                    bound = node.name
+                    if node not in tree.body:
+                        continue
+                else:
+                    continue
+                self.assertNotIn(bound, taken, name)
+                self.assertNotIn(bound, dir(builtins), name)
+                self.assertNotIn(bound, BARRED, name)
+
+    def test_barred_words(self):
+        for name, _, tree in self.trees():
+            for node in ast.walk(tree):
+                words = [getattr(node, "id", None), getattr(node, "attr", None), getattr(node, "arg", None)]
+                self.assertFalse(BARRED & {word for word in words if isinstance(word, str)}, name)
+                if isinstance(node, ast.Attribute):
+                    self.assertIsNone(re.match("_(wall|pe_|dcw_|enum_|cm_|twin_re_|lay_|law_|stub_|sre|WallAttr|cold|"
+                                               "tuplegetter|outside|record|written_out|member_names)", node.attr), name)
+
+    def test_properties_methods_and_attributes(self):
+        properties, methods, attributes = {}, {}, {}
+        for _, _, tree in self.trees():
+            for made in [node for node in tree.body if isinstance(node, ast.ClassDef)]:
+                for node in made.body:
+                    if isinstance(node, ast.FunctionDef):
+                        is_property = any(getattr(one, "id", "") == "property" for one in node.decorator_list)
+                        (properties if is_property else methods).setdefault(node.name, []).append(made.name)
+            for node in ast.walk(tree):
+                if isinstance(node, ast.Attribute) and isinstance(node.ctx, ast.Store):
+                    attributes[node.attr] = True
+        self.assertFalse(set(properties) & set(methods))
+        self.assertFalse(set(properties) & BUILTIN_METHODS)
+        self.assertFalse(set(properties) & set(attributes))
+        self.assertFalse(set(methods) & set(attributes))
+
+    def test_comparisons_by_is(self):
+        for name, _, tree in self.trees():
+            for node in ast.walk(tree):
+                if isinstance(node, ast.Compare) and any(isinstance(one, (ast.Is, ast.IsNot)) for one in node.ops):
+                    self.assertIsInstance(node.comparators[0], ast.Constant, name)
+
+    def test_sets_are_only_sorted(self):
+        for name, _, tree in self.trees():
+            fine = [node.args[0] for node in ast.walk(tree) if isinstance(node, ast.Call) and node.args
+                    and getattr(node.func, "id", "") in ("sorted", "len")]
+            for node in ast.walk(tree):
+                is_set = isinstance(node, (ast.Set, ast.SetComp)) or (
+                    isinstance(node, ast.Call) and getattr(node.func, "id", "") in ("set", "frozenset"))
+                self.assertTrue(not is_set or node in fine, name)
 
 
 if __name__ == "__main__":

@@ -221,6 +221,19 @@ class TestRuns(unittest.TestCase):
         self.assertEqual(counted(forced(book, Curve([1], gain=1), refusal, [5]), run, ("room", "p", 5, 6)), 3)
 
 
+    def test_late_ticks(self):
+        book = Book(Network([Station("p", 9, 9), Station("q", 9, 2)], [("p", "q", 10)]))
+        admit(book, "x", Curve([1], gain=1), ["q"], 9, begin=1000)
+        new = Curve([1], gain=1)
+        refusal = refused(book, new, ["p", "q"], 99, 1000, [5, 5])
+        self.assertEqual(refusal.trouble([5, 5]), ("room", "q", 1016, 1017))
+        run = refusal.run([5, 5])
+        self.assertEqual(counted(forced(book, new, refusal, [5, 5]), run, ("room", "q", 1016, 1017)), 3)
+        refusal = refused(book, Curve([10]), ["p", "q"], 99, 1000, [1, 1])
+        self.assertEqual(refusal.trouble([1, 1]), ("time", "p", 1000, 1001))
+        self.assertEqual(refusal.run([1, 1]), {"z": (1000, [10])})
+
+
 class TestErrors(unittest.TestCase):
     def setUp(self):
         self.book = Book(Network([Station("p", 1, 3), Station("q", 1, 3)], [("p", "q", 2)]))
