@@ -106,6 +106,18 @@ class TestTables(unittest.TestCase):
             sizes.append(len(expected))
         self.assertGreater(max(sizes), 7)
 
+    def test_many_entries(self):
+        stations = [Station("p", 1, 12), Station("q", 1, 9), Station("r", 0, 9)]
+        book = Book(Network(stations, [("p", "q", 1), ("q", "r", 0)]))
+        admit(book, "x", Curve([1], gain=0), ["q"], 9)
+        new = Curve([1])
+        for within, last in [(100, 25), (15, 14), (16, 15), (2, None)]:
+            table = refused(book, new, ["p", "q", "r"], within, 0).table()
+            self.assertEqual(table, Tried(book, new, 0).table(["p", "q", "r"], within))
+            self.assertEqual(max((shift for index, shift in table if index == 2), default=None), last)
+            self.assertEqual(table[0, 0], (1, 12))
+        self.assertGreater(len(refused(book, new, ["p", "q", "r"], 100, 0).table()), 30)
+
     def test_properties(self):
         book = Book(Network([Station("p", 1, 4), Station("q", 1, 4)], [("p", "q", 2)]))
         path = ["p", "q"]
