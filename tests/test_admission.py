@@ -135,19 +135,19 @@ class TestAdmission(unittest.TestCase):
                     self.assertTrue(twin == book)
 
     def test_ties(self):
-        # After x at p, and with a room of 2 at each station, some splits of y have the same total.
-        book = Book(Network([Station("p", 1, 9), Station("q", 1, 9)], [("p", "q", 0)]))
-        admit(book, "x", Curve([1]), ["p"], 9)
-        self.assertEqual(admit(book, "y", Curve([1]), ["p", "q"], 9), [2, 1])
-        admit(book, "z", Curve([1]), ["q"], 9, split=[2])
-        self.assertEqual(admit(book, "w", Curve([1]), ["q"], 9), [3])
+        # As q serves nothing before tick 6, a time at p makes the one at q less by as much.
+        book = Book(Network([Station("p", 1, 3), Station("q", 0, 9)], [("p", "q", 0)]))
+        book.put_changes("q", [(6, 1)])
+        new = Curve([1])
+        splits = [split for split in Tried(book, new, 0).splits(["p", "q"]) if sum(split) == 7]
+        self.assertEqual(splits, [(time, 7 - time) for time in range(1, 7)])
+        self.assertEqual(least_total(book, new, ["p", "q"]), 7)
+        self.assertEqual(admit(book, "x", new, ["p", "q"], 7), [1, 6])
 
     def test_the_within(self):
-        for within, split in [(4, [1, 1]), (5, [2, 1])]:
-            with self.assertRaises(errors.Refused):
-                admit(pair(), "a", Curve([1] if within == 4 else [2]), ["p", "q"], within - 1)
-            if within == 4:
-                self.assertEqual(admit(pair(), "a", Curve([1]), ["p", "q"], within), split)
+        self.assertEqual(admit(pair(), "a", Curve([1]), ["p", "q"], 4), [1, 1])
+        with self.assertRaises(errors.Refused):
+            admit(pair(), "a", Curve([1]), ["p", "q"], 3)
         self.assertEqual(admit(pair(), "a", Curve([2]), ["p", "q"], 6), [2, 2])
         with self.assertRaises(errors.Refused):
             admit(pair(), "a", Curve([2]), ["p", "q"], 5)
