@@ -3,8 +3,7 @@
 from dueways.checks import is_name, require_tick
 from dueways.counts import is_count_to
 from dueways.curves import MAX_VALUES, find_problem, require_good
-from dueways.errors import (HasReserves, InvalidName, InvalidSplit, InvalidTime, NameTaken, Refused, TooLong, TooMany,
-                            TooSlow)
+from dueways.errors import InvalidName, InvalidSplit, InvalidTime, NameTaken, Refused, TooLong, TooMany, TooSlow
 from dueways.loads import Load, Visit, full_record
 from dueways.network import MAX_PATH, check_split, shifts_of, total_of
 from dueways.splits import Possible, least_split
@@ -92,14 +91,7 @@ class Refusal:
 
 def admit(book, name, curve, path, within, *, begin=0, split=None):
     """Admit a stream to a book from a tick on; return its split."""
-    require_new_stream(book, name, curve)
-    book.network.check_path(path)
-    require_within(within)
-    require_tick(begin)
-    if book.has_reserves():
-        raise HasReserves("a book with reserves cannot be changed")
-    if len(book) >= MAX_STREAMS:
-        raise TooMany(MAX_STREAMS)
+    require_admissible(book, name, curve, path, within, begin)
     found = find_split(book, name, curve, path, within, begin, split)
     book.put_stream(name, curve, within, [(begin, None, tuple(path), tuple(found))])
     return found
@@ -186,6 +178,22 @@ def first_impossible(possible, network, path, split):
         if split[index] not in possible.times(path[index], shift):
             return index, shift
     return None
+
+
+def require_admissible(book, name, curve, path, within, begin):
+    """Raise an error unless one may ask to admit a stream with these values to a book."""
+    require_new_stream(book, name, curve)
+    book.network.check_path(path)
+    require_within(within)
+    require_tick(begin)
+    book.require_no_reserves()
+    require_free_place(book)
+
+
+def require_free_place(book):
+    """Raise TooMany if a book has as many streams as can be admitted."""
+    if len(book) >= MAX_STREAMS:
+        raise TooMany(MAX_STREAMS)
 
 
 def require_new_stream(book, name, curve):

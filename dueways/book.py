@@ -1,10 +1,12 @@
 """Books: which streams a network carries."""
 
-from dueways.errors import UnknownStream
+from dueways.errors import HasReserves, NotPlain, UnknownStream
 from dueways.loads import Load, Visit
 from dueways.network import shifts_of
 from dueways.supply import Supply
 from dueways.windows import crowded, overfull
+
+MAX_LIVES = 4
 
 
 class Book:
@@ -88,7 +90,11 @@ class Book:
 
     def is_plain(self):
         """Return whether each stream has one endless life from tick 0 on, and nothing else is out of the ordinary."""
-        if self.has_reserves() or any([len(changes) > 0 for changes in self._changes.values()]):
+        return not self.has_reserves() and self.is_plain_otherwise()
+
+    def is_plain_otherwise(self):
+        """Return whether the book would be plain without its reserves."""
+        if any([len(changes) > 0 for changes in self._changes.values()]):
             return False
         return all([len(lives) == 1 and lives[0][:2] == (0, None) for lives in self._lives.values()])
 
@@ -110,6 +116,21 @@ class Book:
         """Raise UnknownStream unless a value is the name of a stream."""
         if name not in self:
             raise UnknownStream(name)
+
+    def require_no_reserves(self):
+        """Raise HasReserves if some stream has a reserve: streams and capacities cannot be changed then."""
+        if self.has_reserves():
+            raise HasReserves("a book with reserves cannot be changed")
+
+    def require_plain(self):
+        """Raise NotPlain unless the book is plain."""
+        if not self.is_plain():
+            raise NotPlain("the book is not plain")
+
+    def require_plain_otherwise(self):
+        """Raise NotPlain unless the book would be plain without its reserves."""
+        if not self.is_plain_otherwise():
+            raise NotPlain("the book would not be plain without its reserves either")
 
     def put_stream(self, name, curve, within, lives):
         """Add a stream without a reserve, or give a stream this curve, this within and these lives."""

@@ -69,10 +69,11 @@ def crucial_lengths(supply, needs):
     found = []
     ends_early = growth(supply, needs) <= 0
     settled = settled_length(supply, needs)
+    hulls = [hull_of(visits) for _, visits in needs]
     calm = 0
     for length in range(1, longest_length(supply, needs) + 1):
         calm += 1
-        if most_urgent(needs, length) > least_between(supply, length):
+        if most_urgent(needs, hulls, length) > least_between(supply, length):
             found.append(length)
             calm = 0
         # Once all is settled, each further round changes both numbers as the round before did.
@@ -86,19 +87,45 @@ def settled_length(supply, needs):
     lengths = [tick + 1 for tick, _ in supply.changes()]
     for curve, visits in needs:
         lengths.append(len(curve.first_values()) + MAX_TIME)
-        lengths.extend([visit.end - visit.begin + MAX_TIME for visit in visits if visit.end is not None])
+        ends = [visit.end for visit in visits if visit.end is not None]
+        if len(ends) > 0:
+            lengths.append(max(ends) - min([visit.begin for visit in visits]) + MAX_TIME)
     return max(lengths, default=0)
 
 
-def most_urgent(needs, length):
-    """Return how many units are at most urgent in any window of a length."""
+def hull_of(visits):
+    """Return a tuple (most, more) if no entry tick belongs to two of some visits, otherwise None.
+
+    All urgent units of a window enter in successive ticks, which are at most the length of the window and so many
+    more, and at most so many in all, if this is not None.
+    """
+    ordered = sorted(visits, key=lambda visit: visit.begin)
+    for one, following in zip(ordered, ordered[1:]):
+        if one.end is None or one.end > following.begin:
+            return None
+    most = None
+    if ordered[-1].end is not None:
+        most = ordered[-1].end - ordered[0].begin
+    last = max([visit.shift for visit in visits])
+    return most, last + 1 - min([visit.time + visit.shift for visit in visits])
+
+
+def most_urgent(needs, hulls, length):
+    """Return a number such that in no window of a length more units are urgent."""
     units = 0
-    for curve, visits in needs:
+    for (curve, visits), hull in zip(needs, hulls):
+        each = []
         for visit in visits:
             ticks = length - visit.time + 1
             if visit.end is not None:
                 ticks = min(ticks, visit.end - visit.begin)
-            units += curve.at(max(0, ticks))
+            each.append(curve.at(max(0, ticks)))
+        urgent = sum(each)
+        if hull is not None and len(visits) > 1:
+            most, more = hull
+            ticks = length + more if most is None else min(length + more, most)
+            urgent = min(urgent, curve.at(max(0, ticks)))
+        units += urgent
     return units
 
 

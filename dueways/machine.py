@@ -21,6 +21,8 @@ class Machine:
         self._faults = list(faults)
         self._plan = FaultPlan(faults)
         self._done = 0
+        # What was handed in at the polices in each tick.
+        self._handed = []
         self._polices = {}
         self._units = {}
         self._benches = {station: Bench() for station in book.network.names()}
@@ -44,7 +46,8 @@ class Machine:
         """Do one tick in which these units are handed in, by streams, and these loose ones, by stations."""
         require_handed(handed, self._book.names())
         require_handed(loose, self._book.network.names())
-        self._enter(handed or {})
+        self._handed.append(dict(handed or {}))
+        self._enter(self._handed[-1])
         self._release()
         for station in self._benches:
             self._serve(station, (loose or {}).get(station, 0))
@@ -124,13 +127,31 @@ class Machine:
             self._coming[tick] = [unit for unit in units if not unit.was_lost]
         return [(unit.serial, unit.where() if unit.has_place else None) for unit in dropped]
 
+    def faults(self):
+        """Return the list of the faults."""
+        return list(self._faults)
+
+    def repeated(self, faults):
+        """Return a machine with other faults in which the same units were handed in in the same ticks."""
+        twin = Machine(self._book, queue=self._queue, faults=faults)
+        for handed in self._handed:
+            twin.step(handed=handed)
+        return twin
+
+    def vacate(self, station):
+        """Let all units at a station disappear."""
+        bench = self._benches[station]
+        for unit in bench.present():
+            bench.let_go(unit)
+
     def clone(self):
         """Return an independent copy."""
         twin = Machine(self._book, queue=self._queue, faults=self._faults)
         twins = {}
         for stream, units in self._units.items():
             twin._polices[stream] = self._polices[stream].clone()
-            twin._units[stream] = [unit.clone() for unit in units]
+            # Nothing happens to a unit that has arrived, so copies share it.
+            twin._units[stream] = [unit.clone() if unit.arrival is None else unit for unit in units]
             for unit in twin._units[stream]:
                 twins[(stream, unit.serial)] = unit
         for station, bench in self._benches.items():
@@ -138,6 +159,8 @@ class Machine:
         for tick, units in self._coming.items():
             twin._coming[tick] = [twins[(unit.owner, unit.serial)] for unit in units]
         twin._done = self._done
+        # What was handed in stays as it was, so copies share it.
+        twin._handed = list(self._handed)
         twin._late = list(self._late)
         twin._full = self._full
         return twin

@@ -47,29 +47,32 @@ class Possible:
         return self._margins[station]
 
 
-def least_split(possible, network, path):
-    """Return the split with possible times and the least total, of these the least one, or None."""
-    return least_rest(possible, network, path, 0, 0, {})
+def least_split(possible, network, path, least=0):
+    """Return the split with possible times and the least total from a least one on, of these the least one, or None."""
+    splits = least_rests(possible, network, path, 0, 0, {})
+    totals = [total for total in splits if total >= least]
+    if len(totals) == 0:
+        return None
+    return list(splits[min(totals)])
 
 
-def least_rest(possible, network, path, index, shift, found):
-    """Return the least list of the times from the station with this index on, or None.
+def least_rests(possible, network, path, index, shift, found):
+    """Return the dict from how long it can take from the station with this index on to the least list of the times.
 
     What is found for an index and a shift is kept in the dict found.
     """
     asked = index, shift
     if asked in found:
         return found[asked]
-    times = possible.times(path[index], shift)
-    best = None
-    if index == len(path) - 1:
-        best = times[:1] or None
-    else:
-        link = network.link(path[index], path[index + 1])
-        for time in times:
-            rest = least_rest(possible, network, path, index + 1, shift + time + link, found)
-            # The links are the same for all splits; of equal sums the first one found has the lesser times.
-            if rest is not None and (best is None or time + sum(rest) < sum(best)):
-                best = [time] + rest
-    found[asked] = best
-    return best
+    rests = {}
+    for time in possible.times(path[index], shift):
+        if index == len(path) - 1:
+            rests[time] = [time]
+        else:
+            taken = time + network.link(path[index], path[index + 1])
+            further = least_rests(possible, network, path, index + 1, shift + taken, found)
+            for total, times in further.items():
+                # The lesser times come first, so what was found first is the least one.
+                rests.setdefault(taken + total, [time] + times)
+    found[asked] = rests
+    return rests
