@@ -1,4 +1,7 @@
-"""The examples of the interface, as they stand in the document."""
+"""The examples of the interface, as they stand in the document.
+
+In that of Stage 6 the document leaves out what admit returns; it stands here.
+"""
 
 import doctest
 import unittest
@@ -49,6 +52,57 @@ EXAMPLES = [
 >>> second = admit(book, 'b', curve, ['cpu', 'disk'], 20)
 >>> [first, second, book.lives_of('b')]
 [[2], [5, 1], [(0, None, ('cpu', 'disk'), (5, 1))]]
+""",
+    """
+>>> from dueways.curves import Curve
+>>> from dueways.network import Network, Station
+>>> from dueways.book import Book
+>>> from dueways.runs import forced, play, first_trouble
+>>> from dueways.machine import Machine
+>>> book = Book(Network([Station('a', 1, 5)]))
+>>> book = forced(book, 's', Curve([1], period=1, gain=1), ['a'], [2])
+>>> machine = Machine(book)
+>>> machine.step(handed={'s': 1})
+>>> machine.units('a')
+[('s', 0, 2, True)]
+""",
+    """
+>>> from dueways.curves import Curve
+>>> from dueways.network import Network, Station
+>>> from dueways.book import Book
+>>> from dueways.runs import forced, play, first_trouble
+>>> from dueways.machine import Machine
+>>> network = Network([Station('a', 1, 5), Station('b', 1, 5)], [('a', 'b', 0)])
+>>> book = forced(Book(network), 's', Curve([1], period=1, gain=1), ['a', 'b'], [1, 2])
+>>> machine = play(book, {'s': (0, [1])}, 3)
+>>> [machine.released('b'), machine.arrivals('s'), machine.late()]
+[[(1, 's', 0)], [3], []]
+""",
+    """
+>>> from dueways.admission import admit
+>>> from dueways.book import Book
+>>> from dueways.curves import Curve
+>>> from dueways.network import Network, Station
+>>> from dueways.changes import reroute
+>>> book = Book(Network([Station("p", 1, 4), Station("q", 1, 4)], [("p", "q", 2)]))
+>>> admit(book, "x", Curve([1], gain=1), ["p", "q"], 9)
+[1, 1]
+>>> told = reroute(book, "x", ["p"], 4, at=5, until=7)
+>>> [told, book.lives_of("x"), book.within_of("x")]
+[(5, [3]), [(0, 5, ('p', 'q'), (1, 1)), (5, None, ('p',), (3,))], 4]
+""",
+    """
+>>> from dueways.admission import admit
+>>> from dueways.book import Book
+>>> from dueways.cases import split_all
+>>> from dueways.curves import Curve
+>>> from dueways.network import Network, Station
+>>> book = Book(Network([Station('a', 1, 9)]))
+>>> one = Curve([1])
+>>> first = admit(book, 'x', one, ['a'], 3)
+>>> more = split_all(book, 'y', one, ['a'], 1)
+>>> [first, more.lives_of('x'), more.lives_of('y'), book.names()]
+[[1], [(0, None, ('a',), (2,))], [(0, None, ('a',), (1,))], ['x']]
 """,
 ]
 

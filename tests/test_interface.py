@@ -22,6 +22,29 @@ FUNCTIONS = {
         "admit": "(book, name, curve, path, within, *, begin=0, split=None)",
         "least_total": "(book, curve, path, *, begin=0)", "fastest": "(book, curve, source, target, *, begin=0)",
     },
+    "dueways.runs": {
+        "forced": "(book, name, curve, path, split, *, begin=0)", "play": "(book, run, ticks)",
+        "first_trouble": "(machine)",
+    },
+    "dueways.changes": {
+        "end_stream": "(book, name, at)", "earliest": "(book, name, curve, path, within, *, begin, until)",
+        "reroute": "(book, name, path, within, *, at, until)", "change_capacity": "(book, station, at, capacity)",
+        "shed": "(book, station, at, capacity, weights)",
+    },
+    "dueways.cases": {
+        "split_all": "(book, name, curve, path, within)", "is_refusal": "(book, name, curve, path, within, value)",
+    },
+    "dueways.reserves": {
+        "with_reserves": "(book, reserves)", "loads_after": "(book, failed, tick, station)",
+        "after": "(book, failed, tick)", "find_danger": "(book)", "fail": "(machine, station)",
+    },
+    "dueways.blame": {"breaches": "(machine)", "chain": "(machine, station, stream, number)"},
+    "dueways.accounts": {
+        "own_curve": "(machine, stream)", "needed": "(machine, station)", "spared": "(machine, index)",
+    },
+    "dueways.texts": {
+        "network_text": "(network)", "book_text": "(book)", "load_network": "(text)", "load_book": "(text)",
+    },
 }
 CLASSES = {
     ("dueways.curves", "Curve"): {
@@ -85,6 +108,10 @@ CLASSES = {
         "units": "(self, station)", "released": "(self, station)", "served": "(self, station)",
         "loose": "(self, station)", "late": "(self)", "full": "(self)", "use": "(self, book)",
         "drop": "(self, stream)", "clone": "(self)",
+    },
+    ("dueways.console", "Console"): {
+        "__init__": "(self, book)", "execute": "(self, command)", "run": "(self, commands)", "machine": "(self)",
+        "history": "(self)",
     },
 }
 
