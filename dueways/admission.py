@@ -6,7 +6,7 @@ from dueways.curves import MAX_VALUES, find_problem, require_good
 from dueways.errors import InvalidName, InvalidSplit, InvalidTime, NameTaken, Refused, TooLong, TooMany, TooSlow
 from dueways.loads import Load, Visit, full_record
 from dueways.network import MAX_PATH, check_split, shifts_of, total_of
-from dueways.splits import Possible, least_split
+from dueways.splits import Possible, least_split, split_within
 from dueways.windows import crowded, fullest_in, overfull
 
 MAX_WITHIN = 100
@@ -24,7 +24,7 @@ class Refusal:
         self._within = within
         self._begin = begin
         # The only split that the refusal is about, or None.
-        self._split = split
+        self._split = None if split is None else list(split)
         self._possible = Possible(self._book, name, curve, begin)
 
     @property
@@ -100,17 +100,23 @@ def admit(book, name, curve, path, within, *, begin=0, split=None):
 def find_split(book, name, curve, path, within, begin, split):
     """Return the split with which a stream can be admitted, the given one if it is not None, or raise Refused."""
     possible = Possible(book, name, curve, begin)
-    if split is not None:
-        total = check_split(book.network, path, split)
-        if total > within:
-            raise TooSlow(total)
-        if first_impossible(possible, book.network, path, split) is not None:
-            raise Refused(Refusal(book, name, curve, path, within, begin, list(split)))
-        return list(split)
-    found = least_split(possible, book.network, path)
-    if found is None or total_of(book.network, path, found) > within:
-        raise Refused(Refusal(book, name, curve, path, within, begin, None))
+    if split is None:
+        found = split_within(possible, book.network, path, within)
+    else:
+        found = given_split(possible, book.network, path, within, split)
+    if found is None:
+        raise Refused(Refusal(book, name, curve, path, within, begin, split))
     return found
+
+
+def given_split(possible, network, path, within, split):
+    """Return a copy of a split if its times are possible, or None; raise an error if it is none of this within."""
+    total = check_split(network, path, split)
+    if total > within:
+        raise TooSlow(total)
+    if first_impossible(possible, network, path, split) is not None:
+        return None
+    return list(split)
 
 
 def least_total(book, curve, path, *, begin=0):

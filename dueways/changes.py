@@ -1,12 +1,12 @@
 """Changes of books: streams end and take other paths, and capacities change."""
 
-from dueways.admission import find_split, require_admissible, require_within
+from dueways.admission import Refusal, require_admissible, require_within
 from dueways.book import MAX_LIVES
 from dueways.checks import require_tick
 from dueways.counts import is_count, require_count_to
-from dueways.errors import InvalidTick, InvalidWeights, Overfull, Refused, TooMany
+from dueways.errors import InvalidTick, InvalidWeights, Overfull, TooMany
 from dueways.network import total_of
-from dueways.splits import Possible, least_split
+from dueways.splits import Possible, split_within
 from dueways.supply import MAX_CAPACITY, Supply
 from dueways.windows import overfull
 
@@ -29,14 +29,12 @@ def earliest(book, name, curve, path, within, *, begin, until):
     """Return (tick, refusals): the first tick from which on a stream is admitted, or None, and why not earlier."""
     require_admissible(book, name, curve, path, within, begin)
     require_until(until, begin)
+    possible = Possible(book, name, curve, begin)
     refusals = []
     for tick in range(begin, until + 1):
-        try:
-            find_split(book, name, curve, path, within, tick, None)
-        except Refused as refused:
-            refusals.append(refused.refusal)
-        else:
+        if split_within(possible.beginning(tick), book.network, path, within) is not None:
             return tick, refusals
+        refusals.append(Refusal(book, name, curve, path, within, tick, None))
     return None, refusals
 
 
@@ -45,10 +43,11 @@ def reroute(book, name, path, within, *, at, until):
     require_reroute(book, name, path, within, at, until)
     trial = book.clone()
     put_end(trial, name, at)
+    possible = Possible(trial, name, book.curve_of(name), at)
     for begin in range(at, until + 1):
         least = least_total_behind(trial, name, begin)
-        split = least_split(Possible(trial, name, book.curve_of(name), begin), book.network, path, least)
-        if split is not None and total_of(book.network, path, split) <= within:
+        split = split_within(possible.beginning(begin), book.network, path, within, least)
+        if split is not None:
             lives = trial.lives_of(name) + [(begin, None, tuple(path), tuple(split))]
             book.put_stream(name, book.curve_of(name), within, lives)
             return begin, split

@@ -3,8 +3,8 @@
 Loads are given here as needs: tuples (curve, visits).
 """
 
-from dueways.crucial import (ROUND, crucial_lengths, crucial_starts, crucial_ticks, growth, longest_length,
-                             turning_ticks)
+from dueways.crucial import (ROUND, crucial_lengths, crucial_starts, crucial_ticks, growth, hull_of, longest_length,
+                             most_urgent, turning_ticks)
 from dueways.loads import MAX_TIME, Visit
 from dueways.matchings import least_cost
 from dueways.stretches import placed_stretches, urgent_stretches
@@ -19,7 +19,15 @@ class TimeMargin:
     def __init__(self, supply, needs):
         self._supply = supply
         self._needs = list(needs)
+        self._ticks = turning_ticks(supply, needs)
         self._found = {}
+        self._least = {}
+
+    def least_left(self, length):
+        """Return the least of what is left in all windows of a length."""
+        if length not in self._least:
+            self._least[length] = min([self.left(start, length) for start in crucial_starts(self._ticks, length)])
+        return self._least[length]
 
     def left(self, start, length):
         """Return how many more units can be served in a window of a length, below 0 if it is overfull."""
@@ -32,17 +40,16 @@ class TimeMargin:
 
     def find_overfull(self):
         """Return the first overfull window (start, end), or None."""
-        ticks = turning_ticks(self._supply, self._needs)
         for length in crucial_lengths(self._supply, self._needs):
-            for start in crucial_starts(ticks, length):
+            for start in crucial_starts(self._ticks, length):
                 if self.left(start, length) < 0:
                     return start, start + length
         step = growth(self._supply, self._needs)
         if step <= 0:
             return None
-        return self._far_overfull(ticks, step)
+        return self._far_overfull(step)
 
-    def _far_overfull(self, ticks, step):
+    def _far_overfull(self, step):
         """Return the first overfull window if no window is overfull up to the longest one of those that matter.
 
         From there on a window that is longer by a round has less left, by this step.
@@ -50,7 +57,7 @@ class TimeMargin:
         longest = longest_length(self._supply, self._needs)
         found = []
         for length in range(longest + 1, longest + ROUND + 1):
-            for start in crucial_starts(ticks, length):
+            for start in crucial_starts(self._ticks, length):
                 rounds = max(0, self.left(start, length) // step + 1)
                 found.append((length + rounds * ROUND, start))
         length, start = min(found)
@@ -68,6 +75,8 @@ class TimeMargin:
             return None
         ticks = turning_ticks(self._supply, needs)
         for length in crucial_lengths(self._supply, needs):
+            if most_urgent([(curve, now)], [hull_of(now)], length) <= self.least_left(length):
+                continue
             for start in crucial_starts(ticks, length):
                 left = self.left(start, length)
                 # With a greater time no window has more urgent units, so those before need no second look.

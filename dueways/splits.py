@@ -1,6 +1,7 @@
 """Which times are possible for a stream at the stations of a path, and the split with the least total."""
 
 from dueways.margins import RoomMargin, TimeMargin
+from dueways.network import total_of
 from dueways.windows import needs_of
 
 
@@ -17,6 +18,12 @@ class Possible:
         self._begin = begin
         self._bounds = {}
         self._margins = {}
+
+    def beginning(self, begin):
+        """Return the possible times from another begin on; the margins beyond the other streams are the same."""
+        twin = Possible(self._book, self._name, self._curve, begin)
+        twin._margins = self._margins
+        return twin
 
     def low_and_high(self, station, shift):
         """Return the tuple (low, high) at a station and a shift."""
@@ -45,6 +52,14 @@ class Possible:
             time_margin = TimeMargin(self._book.supply_of(station), needs)
             self._margins[station] = (time_margin, RoomMargin(room, needs), visits)
         return self._margins[station]
+
+
+def split_within(possible, network, path, within, least=0):
+    """Return what least_split does if its total is at most a within, or None."""
+    split = least_split(possible, network, path, least)
+    if split is None or total_of(network, path, split) > within:
+        return None
+    return split
 
 
 def least_split(possible, network, path, least=0):
