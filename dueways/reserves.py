@@ -3,7 +3,7 @@
 from dueways.book import Book
 from dueways.checks import MAX_TICK, require_tick
 from dueways.crucial import growth
-from dueways.errors import Exposed, InvalidBook, InvalidTick, TooSlow, UnknownStation, UnknownStream
+from dueways.errors import Exposed, InvalidBook, InvalidTick, TooSlow, UnknownStation
 from dueways.loads import Load, Visit
 from dueways.network import check_split, shifts_of, total_of
 from dueways.windows import crowded, needs_of, overfull
