@@ -13,6 +13,9 @@ BARRED = {"register", "mro", "elements", "open", "input", "law", "type", "typing
           "Protocol", "ABC", "exec", "eval", "exit", "id", "vars", "dir", "help", "compile", "os", "sys", "super"}
 # The examples, which doctest runs, leave their last value among the builtins as `_`.
 BUILTINS = set(dir(builtins)) - {"_"}
+ALLOWED_METHODS = set("""append clear copy count endswith extend find get index insert isalnum isalpha isdigit islower
+    isspace isupper items join keys ljust lower lstrip partition pop remove replace reverse rfind rjust rpartition rsplit
+    rstrip setdefault split splitlines startswith strip update upper values zfill bit_length""".split())
 BUILTIN_METHODS = {name for made in (str, list, dict, set, int, bytes, tuple) for name in dir(made)}
 
 
@@ -98,6 +101,44 @@ class TestLanguage(unittest.TestCase):
         self.assertFalse(set(properties) & BUILTIN_METHODS)
         self.assertFalse(set(properties) & set(attributes))
         self.assertFalse(set(methods) & set(attributes))
+
+    def test_methods_that_are_called(self):
+        own = {node.name for _, _, tree in self.trees() for node in ast.walk(tree)
+               if isinstance(node, (ast.FunctionDef, ast.ClassDef))}
+        for name, _, tree in self.trees():
+            for node in ast.walk(tree):
+                if isinstance(node, ast.Call) and isinstance(node.func, ast.Attribute):
+                    self.assertIn(node.func.attr, own | ALLOWED_METHODS, (name, node.lineno))
+
+    def test_local_names_and_those_of_the_file(self):
+        for name, _, tree in self.trees():
+            outer = {one.name for node in tree.body if isinstance(node, ast.ImportFrom) for one in node.names}
+            used = {node.id for node in ast.walk(tree) if isinstance(node, ast.Name)}
+            self.assertFalse(outer - used, (name, "imported, not used"))
+            outer |= {node.name for node in tree.body if isinstance(node, (ast.FunctionDef, ast.ClassDef))}
+            for made in [node for node in ast.walk(tree) if isinstance(node, ast.FunctionDef)]:
+                local = {one.arg for one in made.args.args + made.args.kwonlyargs}
+                local |= {node.id for node in ast.walk(made)
+                          if isinstance(node, ast.Name) and isinstance(node.ctx, ast.Store)}
+                self.assertFalse(local & outer, (name, made.name))
+
+    def test_no_files_import_from_each_other(self):
+        found = {name: {node.module.split(".")[-1] + ".py" for node in tree.body if isinstance(node, ast.ImportFrom)}
+                 for name, _, tree in self.trees()}
+        done = []
+        while len(done) < len(found):
+            free = [name for name in found if name not in done and not found[name] & (set(found) - set(done))]
+            self.assertTrue(free, sorted(set(found) - set(done)))
+            done += free
+
+    def test_what_is_caught(self):
+        own = {node.name for _, _, tree in self.trees() for node in ast.walk(tree) if isinstance(node, ast.ClassDef)}
+        for name, _, tree in self.trees():
+            for node in ast.walk(tree):
+                if isinstance(node, ast.ExceptHandler):
+                    told = node.type.elts if isinstance(node.type, ast.Tuple) else [node.type]
+                    self.assertFalse({one.id for one in told} - own, name)
+                self.assertNotIsInstance(node, (ast.With, ast.Match, ast.Nonlocal, ast.NamedExpr, ast.Yield), name)
 
     def test_comparisons_by_is(self):
         for name, _, tree in self.trees():
