@@ -164,6 +164,12 @@ class TestSplitAll(Case):
         self.assertEqual(cases[(12,)], ("time", "a", 12, ((13,),)))
         self.assertEqual(cases[(13,)], ("slow", "z"))
         self.assertEqual(len(cases), 13)
+        # One time of 13 is enough, whatever the total is.
+        pair = Book(Network([Station("a", 0, 200), Station("b", 9, 200)], [("a", "b", 0)]))
+        with self.assertRaises(errors.NoSplits) as caught:
+            split_all(pair, "z", Curve([1]), ["a", "b"], 100)
+        self.assertEqual(caught.exception.cases[(13, 1)], ("slow", "z"))
+        self.assertEqual(len(caught.exception.cases), 13)
         book = one_station(capacity=1)
         book.put_stream("x", Curve([0]), 100, [(0, None, ("a",), (1,))])
         with self.assertRaises(errors.NoSplits) as caught:

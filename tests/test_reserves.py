@@ -150,6 +150,13 @@ class TestDangers(Case):
         # Units that were not released there before the failure are lost.
         self.assertIsNone(self.check(put(forced(ring(capacity=1), "x", ONE, ["p", "q"], [1, 2]), {"x": (["q"], [2])})))
 
+    def test_late_ticks(self):
+        # The old units come to q after 66 ticks, so only a failure after their first one meets the new ones.
+        stations = [Station(name, 1, 40, may_fail=name == "a") for name in "abcq"]
+        network = Network(stations, [("a", "b", 10), ("b", "c", 10), ("c", "q", 10)])
+        book = forced(Book(network), "x", Curve([2, 2], period=2, gain=1), ["a", "b", "c", "q"], [12, 12, 12, 2])
+        self.assertEqual(self.check(put(book, {"x": (["q"], [2])})), ("a", 67, "time", "q", 66, 69))
+
     def test_room(self):
         book = forced(ring(room=4, capacity=20), "x", Curve([2], gain=2), ["p"], [2])
         for time, expected in [(1, None), (2, None), (3, ("p", 1, "room", "q", 3, 4))]:
