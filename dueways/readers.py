@@ -131,7 +131,7 @@ class BookReader:
         if self._stage not in ("stream", "life") or len(words) < 4:
             return False
         begin = read_integer_to(words[1], MAX_TICK)
-        end = None if words[2] == "-" else read_integer_to(words[2], MAX_TICK)
+        end = read_integer_to(words[2], MAX_TICK)
         route = read_route(self._book.network, words[3:])
         if begin is None or (end is None and words[2] != "-") or route is None:
             return False

@@ -313,6 +313,12 @@ class TestCapacities(Case):
             for capacity in (1, -1, None):
                 self.refuse(book, errors.InvalidTick, {"value": at}, change_capacity, "p", at, capacity)
                 self.refuse(with_reserve, errors.HasReserves, {}, change_capacity, "p", at, capacity)
+        for at in NO_TICKS + [0]:
+            self.refuse(book, errors.InvalidTick, {"value": at}, change_capacity, "q", at, 3)
+        several = book.clone()
+        change_capacity(several, "p", 8, 3)
+        for at in (5, 6, 7, 8):
+            self.refuse(several, errors.InvalidTick, {"value": at}, change_capacity, "p", at, 4)
         for capacity in NO_COUNTS + [21, 10 ** 9]:
             self.refuse(book, errors.InvalidCount, {"value": capacity}, change_capacity, "p", 6, capacity)
         self.refuse(book, errors.Overfull, {"at_station": "p", "window": (6, 7)}, change_capacity, "p", 6, 0)

@@ -178,6 +178,7 @@ class TestBooks(Case):
             self.check(NETWORK + line + "\n", 5)
         for number in NO_NUMBERS + too_great(1000) + ["0"]:
             self.check(NETWORK + f"capacity p {number} 4\n", 5)
+            self.check(NETWORK + f"capacity q {number} 4\n", 5)
         for number in NO_NUMBERS + too_great(20):
             self.check(NETWORK + f"capacity p 5 {number}\n", 5)
         self.right(NETWORK + "capacity p 1 0\ncapacity p 1000 20\n")
