@@ -4,6 +4,7 @@ import unittest
 
 import dueways.errors as errors
 from dueways.admission import admit
+from dueways.blame import chain
 from dueways.book import Book
 from dueways.changes import end_stream
 from dueways.console import Console
@@ -161,6 +162,17 @@ class TestCommands(Case):
         self.assertEqual(reserved.machine().book().lives_of("x"), [(0, 1, ("p",), (1,)), (1, None, ("q",), (1,))])
         # A station that no stream passes: nothing is lost.
         self.says(done("step 1"), ("fail p", "0"), ("late", "0"), ("blame", ""))
+
+    def test_blame(self):
+        # Of a book that is not protected; the document does not say what is told here, so this is what is meant.
+        book = Book(Network([Station("p", 1, 9, may_fail=True), Station("q", 1, 9)]))
+        for name, station in [("x", "p"), ("y", "q")]:
+            admit(book, name, ONE, [station], 9)
+        book.put_reserve("x", (("q",), (1,)))
+        one = Console(book)
+        self.says(one, ("step 2", "2"), ("fail p", "0"), ("hand x 1", "ok"), ("hand y 1", "ok"), ("blame", ""),
+                  ("step 2", "4"), ("late", "1"), ("blame", "book q 2 3"))
+        self.assertEqual(chain(one.machine(), "q", "y", 0), [("q", "y", 0), ("book", "q", 2, 3)])
 
     def test_queries(self):
         one = done("admit x 1/1/1 20 p q", "hand x 3", "step 4")
